@@ -17,11 +17,11 @@ type checker struct {
 // FirstWrong gives the place of the first name from the left that is wrong.
 func FirstWrong(program tree.Program) (place int, found bool) {
 	c := &checker{}
-	functions := functionNames(program)
+	functions := program.Names()
 	for i, f := range program {
 		c.fresh(f.Name, functions[:i])
 		c.distinct(f.Params)
-		c.expr(f.Body, slices.Concat(functions, texts(f.Params)))
+		c.expr(f.Body, slices.Concat(functions, tree.Texts(f.Params)))
 	}
 	return c.place, c.found
 }
@@ -51,7 +51,7 @@ func (c *checker) fresh(name tree.Name, taken []string) {
 }
 
 func (c *checker) distinct(names []tree.Name) {
-	taken := texts(names)
+	taken := tree.Texts(names)
 	for i, name := range names {
 		c.fresh(name, taken[:i])
 	}
@@ -85,11 +85,11 @@ func (c *checker) expr(e tree.Expr, around []string) {
 // inside checks names and the expression for which they stand.
 func (c *checker) inside(names []tree.Name, body tree.Expr, around []string) {
 	c.distinct(names)
-	c.expr(body, slices.Concat(around, texts(names)))
+	c.expr(body, slices.Concat(around, tree.Texts(names)))
 }
 
 func (c *checker) let(e tree.Let, around []string) {
-	bound := bindNames(e.Binds)
+	bound := e.Names()
 	inner := slices.Concat(around, bound)
 	seen := around
 	if e.Recursive {
@@ -100,28 +100,4 @@ func (c *checker) let(e tree.Let, around []string) {
 		c.expr(b.Body, seen)
 	}
 	c.expr(e.Body, inner)
-}
-
-func texts(names []tree.Name) []string {
-	var list []string
-	for _, name := range names {
-		list = append(list, name.Text)
-	}
-	return list
-}
-
-func functionNames(program tree.Program) []string {
-	var list []string
-	for _, f := range program {
-		list = append(list, f.Name.Text)
-	}
-	return list
-}
-
-func bindNames(binds []tree.Bind) []string {
-	var list []string
-	for _, b := range binds {
-		list = append(list, b.Name.Text)
-	}
-	return list
 }

@@ -29,6 +29,24 @@ func checkCalls(t *testing.T, source string) {
 	if (errno == api.OK) != (text != "") {
 		t.Errorf("P1: Show(%q) = %q, and Check answers %d", source, text, errno)
 	}
+	checkRun(t, source, errno)
+}
+
+func checkRun(t *testing.T, source string, want api.Errno) {
+	t.Helper()
+	outcome, errno := Run(source, 300, 300)
+	if again, other := Run(source, 300, 300); again != outcome || other != errno {
+		t.Errorf("P1: Run(%q) = %+v, %d, then %+v, %d", source, outcome, errno, again, other)
+	}
+	if errno != want {
+		t.Errorf("P1: Run(%q) = %+v, %d, and Check answers %d", source, outcome, errno, want)
+	}
+	if errno != api.OK && outcome != (api.Outcome{}) {
+		t.Errorf("P1: Run(%q) = %+v, %d", source, outcome, errno)
+	}
+	if errno == api.OK && (outcome.Kind < api.Number || outcome.Kind > api.OutOfFuel) {
+		t.Errorf("P4: Run(%q) = %+v, %d", source, outcome, errno)
+	}
 }
 
 func TestCallsAtAllShortStrings(t *testing.T) {

@@ -3,6 +3,8 @@ package thunk
 
 import (
 	"thunk/api"
+	"thunk/compile"
+	"thunk/machine"
 	"thunk/parse"
 	"thunk/scope"
 	"thunk/show"
@@ -26,7 +28,13 @@ func Show(source string) string {
 
 // Run tells what a program means, if heap and fuel are enough (P4).
 func Run(source string, heap int, fuel int) (api.Outcome, api.Errno) {
-	return api.Outcome{}, api.OK
+	program, errno, _ := read(source)
+	if errno != api.OK {
+		return api.Outcome{}, errno
+	}
+	heap = min(max(heap, 0), api.MaxHeap)
+	fuel = min(max(fuel, 0), api.MaxFuel)
+	return machine.Run(compile.Program(program), heap, fuel), api.OK
 }
 
 // read gives the program of a source that has no error.

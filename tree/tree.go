@@ -117,3 +117,30 @@ func (o Operation) Level() Level {
 	}
 	return TestLevel
 }
+
+// Names gives the names of the functions, in their order.
+func (p Program) Names() []string {
+	var list []string
+	for _, f := range p {
+		list = append(list, f.Name.Text)
+	}
+	return list
+}
+
+// Names gives the names that a Let binds, in their order.
+func (l Let) Names() []string {
+	var list []string
+	for _, b := range l.Binds {
+		list = append(list, b.Name.Text)
+	}
+	return list
+}
+
+// Texts gives names without their places.
+func Texts(names []Name) []string {
+	var list []string
+	for _, name := range names {
+		list = append(list, name.Text)
+	}
+	return list
+}
