@@ -21,9 +21,8 @@ func Program(program tree.Program) code.Program {
 	// before they are written.
 	c.blocks = make([]code.Block, len(program))
 	for i, f := range program {
-		c.blocks[i] = c.block(frame(tree.Texts(f.Params)), func(b *builder) {
-			b.work(f.Body, 0)
-		})
+		block := c.block(frame(tree.Texts(f.Params)), func(b *builder) { b.work(f.Body, 0) })
+		c.blocks[i] = block // not before: what it has inside makes the list longer
 	}
 	return code.Program{
 		Blocks:    c.blocks,
