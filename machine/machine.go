@@ -15,7 +15,7 @@ type machine struct {
 	functions []int64 // the addresses of their nodes
 	fuel      int
 	next      int // the block to go on with
-	bottom    int // of the frame: the word behind its slot 0
+	below     int // how many words of the stack are below the frame
 }
 
 // ended is the panic of a run that can't go on, and the kind of its outcome.
@@ -57,7 +57,7 @@ func (m *machine) start() {
 func (m *machine) work() {
 	for m.next != nowhere {
 		block := m.program.Blocks[m.next]
-		m.bottom = m.top + block.Slots
+		m.below = m.end() - m.top - block.Slots
 		for i := range block.Instructions() {
 			m.burn()
 			m.step(i)
@@ -126,7 +126,10 @@ func (m *machine) step(i code.Instruction) {
 	}
 }
 
-func (m *machine) slot(slot int) int { return m.bottom - 1 - slot }
+// bottom is the word behind slot 0 of the frame.
+func (m *machine) bottom() int { return m.end() - m.below }
+
+func (m *machine) slot(slot int) int { return m.bottom() - 1 - slot }
 
 func (m *machine) pushNumber(value int64) {
 	m.need(3)
@@ -155,6 +158,6 @@ func (m *machine) reserve(head int64, count int) {
 
 func (m *machine) slide(count int) {
 	kept := m.stack(count)
-	m.top = m.bottom - count
+	m.top = m.bottom() - count
 	copy(m.words[m.top:], kept)
 }

@@ -14,17 +14,20 @@ func three() code.Program {
 }
 
 // TestRunTakesWordsAndFuel counts them, of P4: a word for the function, two for
-// main that waits for its value, two for the number, one to push it.
+// main that waits for its value, two for the number, one to push it; and as
+// many in the other half.
 func TestRunTakesWordsAndFuel(t *testing.T) {
 	for _, c := range []struct{ words, fuel, kind int }{
-		{6, 2, api.Number},
-		{7, 3, api.Number},
-		{5, 2, api.OutOfHeap},
-		{6, 1, api.OutOfFuel},
-		{6, 0, api.OutOfFuel},
+		{12, 2, api.Number},
+		{13, 3, api.Number},
+		{11, 2, api.OutOfHeap},
+		{12, 1, api.OutOfFuel},
+		{12, 0, api.OutOfFuel},
 		{0, 2, api.OutOfHeap},
 		{1, 2, api.OutOfHeap},
 		{2, 2, api.OutOfHeap},
+		{3, 2, api.OutOfHeap},
+		{4, 2, api.OutOfHeap},
 	} {
 		want := api.Outcome{Kind: c.kind}
 		if c.kind == api.Number {
@@ -49,7 +52,7 @@ func TestFaultIsNoOutcome(t *testing.T) {
 }
 
 func TestHeaders(t *testing.T) {
-	for _, k := range []kind{number, data, closure, busy, moved} {
+	for _, k := range []kind{number, data, closure, busy, moved, forward} {
 		for _, what := range []int{0, 1, 99, api.MaxHeap} {
 			for _, count := range []int{0, 1, 9, api.MaxSource} {
 				head := header(k, what, count)

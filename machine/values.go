@@ -46,7 +46,7 @@ func (m *machine) begin() {
 // giveOn gives the value on top to those who wait below it, until a block goes
 // on or no one is left.
 func (m *machine) giveOn() {
-	for m.top+1 < len(m.words) {
+	for m.top+1 < m.end() {
 		who := m.words[m.top+1]
 		switch waiterOf(who) {
 		case update:

@@ -1,7 +1,5 @@
 package machine
 
-import "thunk/api"
-
 // kind tells what a node is. A node is a header and, behind it, words: for all
 // but a number these are addresses of other nodes.
 type kind int
@@ -12,6 +10,7 @@ const (
 	closure             // a block, and the words with which its frame begins
 	busy                // a closure that is being worked out
 	moved               // a closure that was worked out, and the address of its value
+	forward             // a node that was copied, and the address of the copy
 )
 
 const (
@@ -30,6 +29,14 @@ func kindOf(head int64) kind { return kind(head & (1<<kindBits - 1)) }
 func countOf(head int64) int { return int(head >> kindBits & (1<<countBits - 1)) }
 
 func whatOf(head int64) int { return int(head >> (kindBits + countBits)) }
+
+// sizeOf gives how many words a node has, the header among them.
+func sizeOf(head int64) int {
+	if kindOf(head) == number {
+		return 2
+	}
+	return 1 + countOf(head)
+}
 
 // waiter tells who waits on the stack, above the words that it keeps.
 type waiter int
@@ -50,24 +57,34 @@ func waiterOf(mark int64) waiter { return waiter(^mark & (1<<waiterBits - 1)) }
 
 func waitsWith(mark int64) int { return int(^mark >> waiterBits) }
 
-// store is the list of words. Nodes are laid into it from the low end on, the
-// stack grows down from the high end.
+// store is the list of words, cut in two halves. One of them is in use: nodes
+// are laid into it from its low end on, the stack grows down from its high end.
+// The other one is spare until the collector turns them about.
 type store struct {
 	words []int64
+	half  int // how many words a half has
+	low   int // the first word of the half in use
 	free  int // the first word that no node has
 	top   int // the topmost word of the stack
 }
 
 func newStore(size int) store {
-	return store{words: make([]int64, size), top: size}
+	half := size / 2
+	return store{words: make([]int64, size), half: half, top: half}
 }
 
-// need gives up if so many words aren't left. Who takes words asks for all of
-// them first, while everything it works on is still reached by the stack.
-func (s *store) need(count int) {
-	if count > s.top-s.free {
-		giveUp(api.OutOfHeap)
-	}
+// end is the word behind the half in use, where the stack begins.
+func (s *store) end() int { return s.low + s.half }
+
+func (s *store) left() int { return s.top - s.free }
+
+// turn takes the spare half, with no nodes in it yet, but with the same stack.
+func (s *store) turn() {
+	old := s.words[s.top:s.end()]
+	s.low = s.half - s.low
+	s.free = s.low
+	s.top = s.end() - len(old)
+	copy(s.words[s.top:], old)
 }
 
 func (s *store) push(word int64) {

@@ -17,7 +17,7 @@ func data(tag, arity int) api.Outcome { return api.Outcome{Kind: api.Data, Tag: 
 func stuck() api.Outcome { return api.Outcome{Kind: api.Stuck} }
 
 func isOut(o api.Outcome) bool {
-	return o == api.Outcome{Kind: api.OutOfHeap} || o == api.Outcome{Kind: api.OutOfFuel}
+	return o == outOfHeap() || o == outOfFuel()
 }
 
 type meant struct {
@@ -287,44 +287,32 @@ func TestRunOut(t *testing.T) {
 		if heap < 1 || fuel < 1 {
 			t.Errorf("P4: %q needs %d words and %d units", c.source, heap, fuel)
 		}
-		if o, _ := Run(c.source, heap-1, fuel); o != (api.Outcome{Kind: api.OutOfHeap}) {
+		if o, _ := Run(c.source, heap-1, fuel); o != outOfHeap() {
 			t.Errorf("P4: Run(%q, %d, %d) = %+v", c.source, heap-1, fuel, o)
 		}
-		if o, _ := Run(c.source, heap, fuel-1); o != (api.Outcome{Kind: api.OutOfFuel}) {
+		if o, _ := Run(c.source, heap, fuel-1); o != outOfFuel() {
 			t.Errorf("P4: Run(%q, %d, %d) = %+v", c.source, heap, fuel-1, o)
+		}
+		for _, more := range []int{1, 2, 3, 10, 100, 1000, api.MaxHeap} {
+			if o, _ := Run(c.source, heap+more, fuel); o != c.want {
+				t.Errorf("P5: Run(%q, %d, %d) = %+v, want %+v", c.source, heap+more, fuel, o, c.want)
+			}
 		}
 	}
 }
 
 // TestRunBounds: more than the most is the most.
 func TestRunBounds(t *testing.T) {
-	up := "up n = case n == 0 of <2> -> {1,0}; <1> -> {2,2} n (up (n - 1)); size l = case l of <1> -> 0; <2> h t -> 1 + size t; main = let l = up 100000 in size l + size l;"
+	up := hold(100000)
 	spin := "f x = f x; main = f 1;"
 	for _, more := range []int{api.MaxHeap, api.MaxHeap + 1, 100 * api.MaxHeap, math.MaxInt} {
-		if o, errno := Run(up, more, api.MaxFuel); o != (api.Outcome{Kind: api.OutOfHeap}) || errno != api.OK {
+		if o, errno := Run(up, more, api.MaxFuel); o != outOfHeap() || errno != api.OK {
 			t.Errorf("P4: Run(%q, %d, ..) = %+v, %d", up, more, o, errno)
 		}
 	}
 	for _, more := range []int{api.MaxFuel, api.MaxFuel + 1, math.MaxInt} {
-		if o, errno := Run(spin, api.MaxHeap, more); o != (api.Outcome{Kind: api.OutOfFuel}) || errno != api.OK {
+		if o, errno := Run(spin, api.MaxHeap, more); o != outOfFuel() || errno != api.OK {
 			t.Errorf("P4: Run(%q, .., %d) = %+v, %d", spin, more, o, errno)
-		}
-	}
-}
-
-// TestRunNeedsMore: each turn takes fuel, and each part that is held words.
-func TestRunNeedsMore(t *testing.T) {
-	for _, n := range []int{1, 2, 10, 77, 200} {
-		down := "down n = case n == 0 of <2> -> 7; <1> -> down (n - 1); main = down " + strconv.Itoa(n) + ";"
-		if o, _ := Run(down, api.MaxHeap, n); o != (api.Outcome{Kind: api.OutOfFuel}) {
-			t.Errorf("P4: Run(%q, .., %d) = %+v", down, n, o)
-		}
-		hold := "up n = case n == 0 of <2> -> {1,0}; <1> -> {2,2} n (up (n - 1)); size l = case l of <1> -> 0; <2> h t -> 1 + size t; main = let l = up " + strconv.Itoa(n) + " in size l + size l;"
-		if o, _ := Run(hold, n, api.MaxFuel); o != (api.Outcome{Kind: api.OutOfHeap}) {
-			t.Errorf("P4: Run(%q, %d, ..) = %+v", hold, n, o)
-		}
-		if o, _ := Run(hold, api.MaxHeap, api.MaxFuel); o != number(int64(2*n)) {
-			t.Errorf("P4: Run(%q) = %+v", hold, o)
 		}
 	}
 }
